@@ -335,9 +335,24 @@ func TestRowsPastTheLimit(t *testing.T) {
 		if l, err := DecodeAll(b); len(l) != 0 || err != api.ErrFull {
 			t.Errorf("DecodeAll of MaxCode + 1 of %+v: %d, error %d", x, len(l), err)
 		}
-		b = b[:api.MaxCode*api.InstBytes+1] // a byte of one more than MaxCode
-		if l, err := DecodeAll(b); len(l) != 0 || err != api.ErrFull {
-			t.Errorf("DecodeAll of a byte past MaxCode of %+v: %d, error %d", x, len(l), err)
+	}
+}
+
+func TestDecodeAllWithARestAtTheLimit(t *testing.T) {
+	b := bytes.Repeat([]byte{api.IRet, 0, 0, 0, 0, 0, 0, 0}, api.MaxCode+2)
+	for _, c := range []struct {
+		whole int
+		want  api.Errno
+	}{
+		{api.MaxCode - 1, api.ErrForm},
+		{api.MaxCode, api.ErrForm},     // as many as there may be, and a rest that is none
+		{api.MaxCode + 1, api.ErrFull}, // ahead of ErrForm
+	} {
+		for rest := 1; rest < api.InstBytes; rest++ {
+			n := c.whole*api.InstBytes + rest
+			if l, err := DecodeAll(b[:n]); len(l) != 0 || err != c.want {
+				t.Errorf("DecodeAll of %d bytes: %d, error %d; want error %d", n, len(l), err, c.want)
+			}
 		}
 	}
 }
