@@ -304,7 +304,7 @@ func TestTreesThatAreNoneAheadOfAllElse(t *testing.T) {
 	refusedTree(t, "a NPrint of nothing", n, 0, api.ErrArg)
 }
 
-// deepTypes, deepStatements and deepExpressions put what is none at the bottom.
+// What is none is told at whatever depth.
 func TestTreesThatAreNoneAtGreatDepth(t *testing.T) {
 	for _, c := range []struct {
 		what   string

@@ -218,7 +218,7 @@ func TestSizeOfBodies(t *testing.T) {
 
 // P12.6: memory
 
-// spoilType, spoilTrees and spoilProcs change all that is in lists, to all depths, and their spare room.
+// spoilTypes, spoilTrees and spoilProcs change all that is in lists, to all depths, and their spare room.
 func spoilTypes(l []api.Type) {
 	for i := range l {
 		spoilTypes(l[i].Kids)
